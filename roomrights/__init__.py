@@ -1,0 +1,1 @@
+"""Rights to rooms over nets that lose: see roomrights.net.answers."""
