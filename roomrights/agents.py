@@ -28,6 +28,10 @@ class Agent(Known):
         other.ask_states = list(self.ask_states)
         return other
 
+    def facts(self):
+        """All that it knows as plain values."""
+        return self.common_facts() + [[span.numbers() for span in self.ask_spans], self.ask_states]
+
     def asks_made(self):
         """How many asks it has made."""
         return len(self.ask_spans)

@@ -1,4 +1,4 @@
-"""The calls on what is open, each as a function of the hotel and the call's numbers.
+"""The calls that may change what is open, each as a function of the hotel and the call's numbers.
 
 Each answers a refusal alone, before anything is changed, or ACCEPTED and what else is told.
 """
@@ -144,6 +144,33 @@ def call_deliver(hotel, numbers):
     return [ACCEPTED]
 
 
+def call_lose(hotel, numbers):
+    """A message under way is lost."""
+    if numbers[0] > hotel.under_way.amount():
+        return [NONE_SUCH]
+    hotel.under_way.take(numbers[0])
+    return [ACCEPTED]
+
+
+def call_double(hotel, numbers):
+    """A message under way is put on the net once more."""
+    if numbers[0] > hotel.under_way.amount():
+        return [NONE_SUCH]
+    if hotel.under_way.is_full():
+        return [NO_ROOM]
+    hotel.under_way.double(numbers[0])
+    return [ACCEPTED]
+
+
+def call_calm(hotel, numbers):
+    """Rounds are made until it is quiet, at most so many; answers whether it is."""
+    left = numbers[0]
+    while left > 0 and not hotel.is_quiet():
+        hotel.make_round()
+        left -= 1
+    return [ACCEPTED, 1 if hotel.is_quiet() else 0]
+
+
 CALLS = {
     1: call_give,
     2: call_back,
@@ -158,6 +185,9 @@ CALLS = {
     11: call_cut,
     12: call_again,
     13: call_deliver,
+    14: call_lose,
+    15: call_double,
+    16: call_calm,
 }
 
 

@@ -8,9 +8,10 @@ from roomrights.stock import even_stock
 
 
 class Hotel:
-    """Node 0 is the house, the nodes behind it are the agents."""
+    """The rooms of each kind, and the nodes: 0 is the house, those behind it are the agents."""
 
     def __init__(self, rooms, nights, agents):
+        self.rooms = rooms
         self.kinds = len(rooms)
         self.nights = nights
         self.agents = agents
@@ -31,5 +32,21 @@ class Hotel:
 
     def deliver(self, place):
         """The parcel at that place under way, from 1 on, comes."""
-        parcel = self.under_way.take(place)
+        self.bring(self.under_way.take(place))
+
+    def bring(self, parcel):
+        """A parcel that was under way comes to its node."""
         self.nodes[parcel.receiver].receive(parcel)
+
+    def make_round(self):
+        """All write, then all send again, then all comes: what comes of that is for the next round."""
+        for node in self.nodes:
+            node.write(self.under_way)
+        for node in self.nodes:
+            node.send_again(self.under_way)
+        for parcel in self.under_way.take_all():
+            self.bring(parcel)
+
+    def is_quiet(self):
+        """Whether nothing is under way and every node is at rest."""
+        return self.under_way.amount() == 0 and all([node.is_at_rest() for node in self.nodes])

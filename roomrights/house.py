@@ -1,8 +1,8 @@
 """The house: what it knows besides, and what it does."""
 
 from roomrights.known import Known
-from roomrights.messages import ASK, BACK, GIVE, GONE, NO, RECALL, SOLD, UNASK
-from roomrights.spans import Entry, entries_without, room_at, span_at
+from roomrights.messages import ASK, BACK, BACK_AMOUNTS, GIVE, GONE, NO, RECALL, SOLD, UNASK
+from roomrights.spans import Entry, entries_without, facts_of, room_at, span_at
 
 MOST_WAITS = 12
 
@@ -24,6 +24,11 @@ class Wait:
         other.asked_around = self.asked_around
         other.unanswered = list(self.unanswered)
         return other
+
+    def facts(self):
+        """The wait as plain values."""
+        asked = (self.number, self.agent, self.ask_number) + self.span.numbers()
+        return asked + (self.asked_around, self.unanswered)
 
     def hear_answer(self, agent):
         """That agent has answered."""
@@ -55,6 +60,16 @@ class House(Known):
             told[agent] = list(self.told[agent])
         other.told = told
         return other
+
+    def facts(self):
+        """All that it knows as plain values."""
+        waits = [wait.facts() for wait in self.waits]
+        told = [facts_of(self.told[agent]) for agent in self.told]
+        return self.common_facts() + [waits, self.next_wait, facts_of(self.shut_spans), told]
+
+    def asks_waiting(self):
+        """How many asks wait here."""
+        return len(self.waits)
 
     def give(self, agent, ask, span):
         """Rights that the stock has go to the agent, for its ask or (0) for none."""
@@ -104,7 +119,7 @@ class House(Known):
 
     def hear_back(self, agent, row):
         """Rights come back: the wait's number, the kind, the first night, then how many for each night."""
-        self.stock.add_row(row[2], row[3], row[4:])
+        self.stock.add_row(row[2], row[3], row[BACK_AMOUNTS:])
         for wait in self.waits:
             if wait.number == row[1]:
                 wait.hear_answer(agent)

@@ -1,7 +1,7 @@
 """What the house and the agents alike know."""
 
 from roomrights.links import Link
-from roomrights.spans import Entry, entries_without
+from roomrights.spans import Entry, entries_without, facts_of
 
 
 class Known:
@@ -25,6 +25,15 @@ class Known:
         for peer in other.links:
             links[peer] = other.links[peer].copied()
         self.links = links
+
+    def common_facts(self):
+        """What every node knows as plain values, so that two can be held against one another."""
+        links = [self.links[peer].facts() for peer in self.links]
+        return [self.stock.rows, facts_of(self.bookings), self.next_number, links]
+
+    def unsure_amount(self):
+        """How many messages sent it doesn't know to have come."""
+        return sum([len(self.links[peer].unsure) for peer in self.links])
 
     def send(self, peer, row):
         """Send what the row tells to that node."""

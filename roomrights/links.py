@@ -19,6 +19,10 @@ class Link:
         other.owes_word = self.owes_word
         return other
 
+    def facts(self):
+        """The link as plain values."""
+        return (self.next_message, list(self.unsure), self.expected, self.owes_word)
+
     def send(self, row):
         """The row becomes the next message, not known to have come."""
         self.unsure.append((self.next_message, row))

@@ -12,6 +12,9 @@ UNASK = 6
 SOLD = 7
 GONE = 8
 
+# Where how many for each night begin in the row of a back.
+BACK_AMOUNTS = 4
+
 MOST_UNDER_WAY = 80
 
 
@@ -37,13 +40,36 @@ class UnderWay:
 
     def put(self, parcel):
         """The parcel goes behind the others, or is lost where there is no room."""
-        if len(self.parcels) < MOST_UNDER_WAY:
+        if not self.is_full():
             self.parcels.append(parcel)
 
     def amount(self):
         """How many are under way."""
         return len(self.parcels)
 
+    def is_full(self):
+        """Whether what is put behind the others now is lost."""
+        return len(self.parcels) >= MOST_UNDER_WAY
+
     def take(self, place):
         """The parcel at that place, from 1 on, which is under way no more."""
         return self.parcels.pop(place - 1)
+
+    def take_all(self):
+        """All parcels, in order; none is under way any more."""
+        parcels = self.parcels
+        self.parcels = []
+        return parcels
+
+    def double(self, place):
+        """The parcel at that place, from 1 on, goes behind the others once more."""
+        self.put(self.parcels[place - 1])
+
+
+def rights_in(row, kind, night):
+    """How many rights to that night the message carries: a give and a back alone carry any."""
+    if row[0] == GIVE and row[2] == kind and row[3] <= night < row[4]:
+        return row[5]
+    if row[0] == BACK and row[2] == kind and 0 <= night - row[3] < len(row) - BACK_AMOUNTS:
+        return row[BACK_AMOUNTS + night - row[3]]
+    return 0

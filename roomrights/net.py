@@ -3,6 +3,7 @@
 from roomrights.calls import ACCEPTED, NOTHING_OPEN, OUT_OF_RANGE, accepted_answer
 from roomrights.hotel import Hotel
 from roomrights.ranges import SHAPES, fits, fits_open
+from roomrights.views import FIRST_VIEW, view
 
 OPEN_PLACE = 0
 OPEN_ROOMS_COUNT = 4
@@ -23,6 +24,8 @@ class Desk:
             return [NOTHING_OPEN]
         if not fits(self.hotel, call[0], call[1:]):
             return [OUT_OF_RANGE]
+        if call[0] >= FIRST_VIEW:
+            return [ACCEPTED] + view(self.hotel, call[0], call[1:])
         return accepted_answer(self.hotel, call[0], call[1:])
 
     def answer_open(self, numbers, rooms):

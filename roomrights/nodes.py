@@ -44,6 +44,12 @@ class Node:
             for parcel in self.parcels_to(peer, self.disk.links[peer].unsure):
                 under_way.put(parcel)
 
+    def is_at_rest(self):
+        """Whether no ask waits here, all that was sent has come, and a cut would forget nothing."""
+        if self.known.asks_waiting() > 0 or self.known.unsure_amount() > 0:
+            return False
+        return self.known.facts() == self.disk.facts()
+
     def receive(self, parcel):
         """A parcel comes: a message is done only if it is the next one."""
         link = self.known.links[parcel.sender]

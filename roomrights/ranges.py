@@ -8,23 +8,37 @@ MOST_AGENTS = 5
 MOST_ROOMS = 30
 MOST_ASKS = 40
 MOST_NUMBER = 1000000
+MOST_ROUNDS = 60
 
 # One row a call, by its place; the row of rooms behind the numbers of open is apart.
 SHAPES = (
     ("kinds", "nights", "agents"),
-    ("agent", "kind", "first", "behind", "rooms"),
-    ("agent", "kind", "first", "behind", "rooms"),
-    ("agent", "kind", "first", "behind", "rooms"),
+    ("agent", "kind", "night", "behind", "rooms"),
+    ("agent", "kind", "night", "behind", "rooms"),
+    ("agent", "kind", "night", "behind", "rooms"),
     ("agent", "ask"),
-    ("node", "kind", "first", "behind"),
+    ("node", "kind", "night", "behind"),
     ("node", "number"),
-    ("node", "number", "kind", "first", "behind"),
-    ("kind", "first", "behind", "rooms"),
+    ("node", "number", "kind", "night", "behind"),
+    ("kind", "night", "behind", "rooms"),
     ("number",),
     ("node",),
     ("node",),
     ("node",),
     ("message",),
+    ("message",),
+    ("message",),
+    ("rounds",),
+    ("kind", "night"),
+    ("node",),
+    ("agent",),
+    (),
+    ("agent",),
+    (),
+    ("node",),
+    (),
+    ("kind",),
+    ("node",),
 )
 
 
@@ -56,11 +70,12 @@ def bounds_of(hotel, name, before):
         "agent": (1, hotel.agents),
         "node": (0, hotel.agents),
         "kind": (1, hotel.kinds),
-        "first": (0, hotel.nights - 1),
+        "night": (0, hotel.nights - 1),
         "behind": (before + 1, hotel.nights),
         "rooms": (1, MOST_ROOMS),
         "ask": (1, MOST_ASKS),
         "number": (1, MOST_NUMBER),
         "message": (1, MOST_UNDER_WAY),
+        "rounds": (1, MOST_ROUNDS),
     }
     return bounds[name]

@@ -18,6 +18,10 @@ class Span:
         """Whether both are of one kind and have a night in common."""
         return self.kind == other.kind and self.first < other.behind and other.first < self.behind
 
+    def holds(self, kind, night):
+        """Whether it is of that kind and the night is one of its own."""
+        return self.kind == kind and self.first <= night < self.behind
+
 
 class Entry:
     """A booking or a span of rooms shut, under its number; never altered once made."""
@@ -29,6 +33,10 @@ class Entry:
     def booking_numbers(self):
         """The entry as messages tell a booking: one room goes without saying."""
         return (self.number, self.span.kind, self.span.first, self.span.behind)
+
+    def facts(self):
+        """The entry as plain values."""
+        return (self.number,) + self.span.numbers()
 
 
 def span_at(numbers, place):
@@ -52,3 +60,13 @@ def entry_with(entries, number):
 def entries_without(entries, number):
     """The entries but the one with that number, in their order."""
     return [entry for entry in entries if entry.number != number]
+
+
+def facts_of(entries):
+    """The entries as plain values, in their order."""
+    return [entry.facts() for entry in entries]
+
+
+def rooms_held(entries, kind, night):
+    """How many rooms of the kind the entries hold on that night."""
+    return sum([entry.span.rooms for entry in entries if entry.span.holds(kind, night)])

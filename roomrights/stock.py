@@ -11,6 +11,10 @@ class Stock:
         """Another stock with the same rooms."""
         return Stock([list(row) for row in self.rows])
 
+    def rooms_on(self, kind, night):
+        """How many rooms of the kind there are for that night."""
+        return self.rows[kind - 1][night]
+
     def has(self, span):
         """Whether there are enough rooms for each night of the span."""
         row = self.rows[span.kind - 1]

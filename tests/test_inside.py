@@ -1,16 +1,14 @@
-"""What the calls can't show yet, or can't reach: looked at within the program."""
+"""What the calls can't reach, or can't show behind each other: looked at within the program."""
 
 import random
 import unittest
 
-from roomrights.agents import Agent
 from roomrights.house import House
-from roomrights.messages import ASK, BACK, GIVE, GONE, NO, RECALL, SOLD, UNASK, Parcel
+from roomrights.messages import ASK, BACK, GIVE, NO, UNASK
 from roomrights.net import Desk
-from roomrights.spans import Span
+from roomrights.spans import Entry, Span
 from roomrights.stock import even_stock
-from tests.helper import opening
-from tests.test_promises import AGENTS, NIGHTS, ROOMS, drawn_line
+from tests.helper import CALM, CELL, CUT, MIXED, QUIET, STORMY, SYNC, all_looks, drawn_line, opening
 
 
 def picture(value):
@@ -22,27 +20,6 @@ def picture(value):
     if hasattr(value, "__dict__"):
         return picture(vars(value))
     return value
-
-
-def is_quiet(hotel):
-    """Nothing under way, all written, all known to have come, and no ask waits."""
-    if hotel.under_way.parcels or hotel.house().waits:
-        return False
-    for node in hotel.nodes:
-        if picture(node.known) != picture(node.disk):
-            return False
-        if any(link.unsure for link in node.known.links.values()):
-            return False
-    return not any(node.known.asks_waiting() for node in hotel.nodes[1:])
-
-
-def make_round(desk):
-    for node in range(AGENTS + 1):
-        desk.answer([10, node])
-    for node in range(AGENTS + 1):
-        desk.answer([12, node])
-    for turn in range(desk.hotel.under_way.amount()):
-        desk.answer([13, 1])
 
 
 def on_the_way(sender, receiver, place, kind, night):
@@ -57,90 +34,183 @@ def on_the_way(sender, receiver, place, kind, night):
     return rights
 
 
-def all_rights(hotel, kind, night):
-    """Stock, bookings, rooms shut and rights on their way, of all nodes together."""
-    house = hotel.house()
-    total = 0
-    for node in hotel.nodes:
-        total += node.known.stock.rows[kind - 1][night]
-        entries = node.known.bookings + (node.known.shut_spans if node.number == 0 else [])
-        for entry in entries:
-            if entry.span.kind == kind and entry.span.first <= night < entry.span.behind:
-                total += entry.span.rooms
-    for node in hotel.nodes[1:]:
-        near = house.links[node.number]
-        far = node.known.links[0]
-        total += on_the_way(near, far, GIVE, kind, night) + on_the_way(far, near, BACK, kind, night)
-    return total
+def held(entries, kind, night):
+    spans = [entry.span for entry in entries if entry.span.kind == kind]
+    return sum(span.rooms for span in spans if span.first <= night < span.behind)
+
+
+def cell_within(hotel, size, kind, night):
+    """What cell must answer, by what the nodes know."""
+    house = hotel.nodes[0].known
+    cell = [0, size[0][kind - 1], house.stock.rows[kind - 1][night]]
+    cell.extend((held(house.bookings, kind, night), held(house.shut_spans, kind, night)))
+    for agent in range(1, size[2] + 1):
+        known = hotel.nodes[agent].known
+        near = house.links[agent]
+        far = known.links[0]
+        cell.extend((known.stock.rows[kind - 1][night], held(known.bookings, kind, night)))
+        cell.append(on_the_way(near, far, GIVE, kind, night) + on_the_way(far, near, BACK, kind, night))
+    return cell
 
 
 class Rights(unittest.TestCase):
-    def assert_just_the_rooms(self, hotel, seed):
-        for kind, rooms in enumerate(ROOMS, start=1):
-            for night in range(NIGHTS):
-                self.assertEqual(all_rights(hotel, kind, night), rooms, (seed, kind, night))
-        for node in hotel.nodes:
+    def assert_just_the_rooms(self, desk, size, seed):
+        for kind in range(1, len(size[0]) + 1):
+            for night in range(size[1]):
+                cell = desk.answer([CELL, kind, night])
+                self.assertEqual(sum(cell[2:]), cell[1], (seed, kind, night))
+                self.assertEqual(cell, cell_within(desk.hotel, size, kind, night), (seed, kind, night))
+        for node in desk.hotel.nodes:
             self.assertGreaterEqual(min(min(row) for row in node.known.stock.rows), 0, seed)
 
     def test_together_they_are_just_the_rooms_behind_every_call(self):
-        for seed in range(1000, 1080):
+        for seed in range(2000, 2040):
             desk = Desk()
-            for call in drawn_line(seed, 250):
+            size, calls = drawn_line(seed, 250, MIXED)
+            for call in calls:
                 desk.answer(call)
-                self.assert_just_the_rooms(desk.hotel, seed)
+                self.assert_just_the_rooms(desk, size, seed)
 
-    def test_whatever_is_lost_doubled_and_turned_round(self):
-        for seed in range(1100, 1160):
+    def test_however_the_net_turns_messages_round(self):
+        for seed in range(2100, 2120):
             draw = random.Random(seed)
             desk = Desk()
-            for call in drawn_line(seed, 250):
+            size, calls = drawn_line(seed, 250, STORMY)
+            for call in calls:
                 desk.answer(call)
-                parcels = desk.hotel.under_way.parcels
-                if parcels and draw.random() < 0.2:
-                    parcels.pop(draw.randrange(len(parcels)))
-                if parcels and draw.random() < 0.2:
-                    desk.hotel.under_way.put(draw.choice(parcels))
-                draw.shuffle(parcels)
-                self.assert_just_the_rooms(desk.hotel, seed)
+                draw.shuffle(desk.hotel.under_way.parcels)
+                self.assert_just_the_rooms(desk, size, seed)
 
 
 class Quiet(unittest.TestCase):
-    def quiet_desk(self, seed):
+    """An ask waits only as long as some message isn't known to have come, so these two can't be alone by calls."""
+
+    def quiet_desk(self):
         desk = Desk()
-        for call in drawn_line(seed, 200):
-            desk.answer(call)
-        for turn in range(60):
-            if not is_quiet(desk.hotel):
-                make_round(desk)
-        self.assertTrue(is_quiet(desk.hotel), seed)
+        desk.answer(opening(1, 2, 2, [3]))
+        self.assertEqual(desk.answer([QUIET]), [0, 1])
         return desk
 
-    def test_it_becomes_quiet_and_the_house_knows_every_agents_bookings(self):
-        for seed in range(1200, 1280):
-            hotel = self.quiet_desk(seed).hotel
-            for agent in range(1, AGENTS + 1):
-                told = [entry.booking_numbers() for entry in hotel.house().told[agent]]
-                own = [entry.booking_numbers() for entry in hotel.known_by(agent).bookings]
-                self.assertEqual(told, own, seed)
+    def forget_messages(self, node):
+        for known in (node.known, node.disk):
+            for link in known.links.values():
+                link.unsure = []
+                link.owes_word = False
 
-    def test_an_ask_made_then_is_given_just_if_the_others_have_enough(self):
-        seen = set()
-        for seed in range(1300, 1400):
-            desk = self.quiet_desk(seed)
-            draw = random.Random(seed)
-            first = draw.randrange(NIGHTS)
-            span = Span(1, first, draw.randint(first + 1, NIGHTS), draw.randint(1, 3))
-            others = [desk.hotel.known_by(node).stock.rows[0] for node in (0, 2)]
-            enough = all(sum(row[night] for row in others) >= span.rooms for night in range(first, span.behind))
-            answer = desk.answer([3, 1] + list(span.numbers()))
-            if answer == [-4]:
-                continue
-            for turn in range(8):
-                make_round(desk)
-            self.assertTrue(is_quiet(desk.hotel), seed)
-            self.assertEqual(desk.hotel.known_by(1).ask_states[answer[1] - 1], 1 if enough else 2, seed)
-            seen.add(enough)
-        self.assertEqual(seen, {False, True})
+    def test_not_with_an_ask_that_waits_at_the_house(self):
+        desk = self.quiet_desk()
+        house = desk.hotel.nodes[0]
+        house.known.hear(1, (ASK, 1, 1, 0, 1, 4))
+        house.disk = house.known.copied()
+        self.forget_messages(house)
+        self.assertEqual(desk.answer([QUIET]), [0, 0])
+        house.known.waits = []
+        house.disk.waits = []
+        self.assertEqual(desk.answer([QUIET]), [0, 1])
+
+    def test_not_with_an_ask_in_state_0_at_an_agent(self):
+        for agent in (1, 2):
+            desk = self.quiet_desk()
+            node = desk.hotel.nodes[agent]
+            node.known.ask(Span(1, 0, 1, 1))
+            node.disk = node.known.copied()
+            self.forget_messages(node)
+            self.assertEqual(desk.answer([QUIET]), [0, 0])
+            for state in (1, 2, 3):
+                node.known.ask_states[0] = state
+                node.disk.ask_states[0] = state
+                self.assertEqual(desk.answer([QUIET]), [0, 1])
+
+    def test_not_when_any_one_thing_is_known_otherwise_than_on_the_disk(self):
+        desk = self.quiet_desk()
+        desk.hotel.nodes[0].known.told[2].append(desk.hotel.nodes[0].known.sell(Span(1, 0, 1, 1)))
+        desk.answer([SYNC, 0])
+        self.assertEqual(desk.answer([QUIET]), [0, 1])
+        changes = (
+            (0, lambda known: known.stock.rows[0].reverse()),
+            (0, lambda known: known.bookings.pop()),
+            (0, lambda known: setattr(known, "next_number", 9)),
+            (0, lambda known: setattr(known, "next_wait", 9)),
+            (0, lambda known: known.shut_spans.append(known.bookings[0])),
+            (0, lambda known: known.told[2].pop()),
+            (0, lambda known: setattr(known.links[2], "next_message", 9)),
+            (0, lambda known: setattr(known.links[2], "expected", 9)),
+            (0, lambda known: setattr(known.links[2], "owes_word", True)),
+            (2, lambda known: known.stock.add_span(Span(1, 1, 2, 1))),
+            (2, lambda known: setattr(known, "next_number", 9)),
+            (2, lambda known: setattr(known.links[0], "expected", 9)),
+            (2, lambda known: setattr(known.links[0], "owes_word", True)),
+            (2, lambda known: known.ask_states.append(3)),
+            (2, lambda known: known.ask_spans.append(Span(1, 0, 1, 1))),
+        )
+        for place, (node, change) in enumerate(changes):
+            change(desk.hotel.nodes[node].known)
+            self.assertEqual(desk.answer([QUIET]), [0, 0], place)
+            desk.answer([CUT, node])
+            self.assertEqual(desk.answer([QUIET]), [0, 1], place)
+
+    def test_facts_tell_entries_and_waits_apart(self):
+        house = House(even_stock([3], 2), [1, 2])
+        house.hear(1, (ASK, 1, 1, 0, 1, 4))
+        self.assertEqual(house.facts(), house.copied().facts())
+        values = {"number": 9, "agent": 2, "ask_number": 9, "span": Span(1, 0, 2, 4), "asked_around": False}
+        values["unanswered"] = []
+        self.assertEqual(set(values), set(vars(house.waits[0])))
+        for name, value in values.items():
+            other = house.copied()
+            setattr(other.waits[0], name, value)
+            self.assertNotEqual(house.facts(), other.facts(), name)
+        entries = [Entry(number, Span(*span)) for number in (1, 2) for span in ((1, 0, 1, 1), (1, 0, 2, 1), (1, 0, 1, 2))]
+        told = [entry.facts() for entry in entries]
+        self.assertEqual(len(set(told)), len(entries))
+
+    def test_just_what_is_known_and_on_the_disk_counts(self):
+        quiet = 0
+        for seed in range(2200, 2260):
+            desk = Desk()
+            for call in drawn_line(seed, 200, MIXED)[1]:
+                desk.answer(call)
+                self.assertEqual(desk.answer([QUIET]), [0, 1 if self.is_quiet(desk.hotel) else 0], seed)
+                quiet += desk.answer([QUIET])[1]
+        self.assertGreater(quiet, 100)
+
+    def is_quiet(self, hotel):
+        if hotel.under_way.parcels or hotel.nodes[0].known.waits:
+            return False
+        for node in hotel.nodes:
+            if picture(node.known) != picture(node.disk):
+                return False
+            if any(link.unsure for link in node.known.links.values()):
+                return False
+        return not any(0 in node.known.ask_states for node in hotel.nodes[1:])
+
+
+class Calm(unittest.TestCase):
+    """A round made when it is quiet changes nothing, so that none is made can't be told from answers."""
+
+    def rounds_made(self, desk, most):
+        made = []
+        plain = desk.hotel.make_round
+        desk.hotel.make_round = lambda: made.append(plain())
+        desk.answer([CALM, most])
+        del desk.hotel.make_round
+        return len(made)
+
+    def test_no_round_is_made_when_it_is_quiet(self):
+        desk = Desk()
+        desk.answer(opening(1, 2, 2, [3]))
+        self.assertEqual(self.rounds_made(desk, 60), 0)
+        desk.answer([1, 1, 1, 0, 2, 1])
+        self.assertEqual(self.rounds_made(desk, 1), 1)
+        self.assertEqual(self.rounds_made(desk, 60), 2)
+        self.assertEqual(self.rounds_made(desk, 60), 0)
+
+    def test_no_more_than_told(self):
+        for most in (1, 2, 3, 4, 60):
+            desk = Desk()
+            desk.answer(opening(1, 2, 2, [3]))
+            desk.answer([1, 1, 1, 0, 2, 1])
+            self.assertEqual(self.rounds_made(desk, most), min(most, 3))
 
 
 class TwelveWaits(unittest.TestCase):
@@ -172,97 +242,31 @@ class TwelveWaits(unittest.TestCase):
         self.assertEqual((house.waits[-1].agent, house.waits[-1].ask_number), (4, 14))
 
 
-class Rows(unittest.TestCase):
-    def test_the_places_of_what_messages_tell(self):
-        self.assertEqual([GIVE, NO, RECALL, BACK, ASK, UNASK, SOLD, GONE], list(range(1, 9)))
-
-    def test_what_an_agent_tells(self):
-        agent = Agent(even_stock([5, 5], 4))
-        agent.ask(Span(2, 0, 3, 4))
-        agent.unask(1)
-        booking = agent.sell(Span(1, 1, 3, 1))
-        agent.change(booking, Span(1, 0, 2, 1))
-        agent.give_back(Span(2, 1, 4, 2))
-        agent.hear(0, (RECALL, 9, 1, 0, 4, 5))
-        self.assertEqual(
-            agent.links[0].unsure,
-            [
-                (1, (ASK, 1, 2, 0, 3, 4)),
-                (2, (UNASK, 1)),
-                (3, (SOLD, 1, 1, 1, 3)),
-                (4, (GONE, 1, 1, 1, 3)),
-                (5, (SOLD, 2, 1, 0, 2)),
-                (6, (BACK, 0, 2, 1, 2, 2, 2)),
-                (7, (BACK, 9, 1, 0, 4, 4, 5, 5)),
-            ],
-        )
-
-    def test_what_the_house_tells(self):
-        house = House(even_stock([2], 3), [1, 2, 3])
-        house.give(2, 0, Span(1, 0, 2, 1))
-        house.hear(1, (ASK, 1, 1, 0, 3, 1))
-        house.hear(3, (ASK, 1, 1, 2, 3, 2))
-        house.hear(1, (BACK, 1, 1, 2, 0))
-        house.hear(2, (BACK, 1, 1, 2, 0))
-        self.assertEqual(house.links[1].unsure, [(1, (GIVE, 1, 1, 0, 3, 1)), (2, (RECALL, 2, 1, 2, 3, 2))])
-        self.assertEqual(house.links[2].unsure, [(1, (GIVE, 0, 1, 0, 2, 1)), (2, (RECALL, 2, 1, 2, 3, 2))])
-        self.assertEqual(house.links[3].unsure, [])
-        house.hear(1, (BACK, 2, 1, 2, 0))
-        house.hear(2, (BACK, 2, 1, 2, 0))
-        self.assertEqual(house.links[3].unsure, [(1, (NO, 1))])
-        self.assertEqual(house.waits, [])
-
-    def test_what_the_house_was_told_of(self):
-        house = House(even_stock([2], 3), [1, 2])
-        house.hear(2, (SOLD, 1, 1, 0, 2))
-        house.hear(2, (SOLD, 2, 1, 1, 3))
-        house.hear(1, (SOLD, 1, 1, 2, 3))
-        house.hear(2, (GONE, 1, 1, 0, 2))
-        house.hear(2, (SOLD, 3, 1, 0, 1))
-        self.assertEqual([entry.booking_numbers() for entry in house.told[1]], [(1, 1, 2, 3)])
-        self.assertEqual([entry.booking_numbers() for entry in house.told[2]], [(2, 1, 1, 3), (3, 1, 0, 1)])
-
-    def test_states_of_asks(self):
-        agent = Agent(even_stock([0], 2))
-        for turn in range(4):
-            agent.ask(Span(1, 0, 1, 1))
-        agent.unask(1)
-        agent.hear(0, (GIVE, 1, 1, 0, 1, 1))
-        agent.hear(0, (GIVE, 2, 1, 0, 1, 1))
-        agent.hear(0, (NO, 3))
-        agent.hear(0, (GIVE, 0, 1, 0, 1, 1))
-        agent.hear(0, (NO, 2))
-        agent.hear(0, (NO, 1))
-        self.assertEqual(agent.ask_states, [3, 1, 2, 0])
-        self.assertEqual(agent.stock.rows, [[3, 0]])
-
-
 class Disks(unittest.TestCase):
     def test_nothing_done_later_reaches_the_disk(self):
-        for seed in range(1500, 1540):
+        for seed in range(2300, 2340):
             desk = Desk()
             disks = None
-            for call in drawn_line(seed, 200):
+            for call in drawn_line(seed, 200, MIXED)[1]:
                 desk.answer(call)
                 now = [picture(node.disk) for node in desk.hotel.nodes]
                 for number, node in enumerate(desk.hotel.nodes):
-                    if disks is not None and call != [10, number]:
+                    if disks is not None and call != [SYNC, number] and call[0] != CALM:
                         self.assertEqual(now[number], disks[number], (seed, call))
-                    if call == [11, number] or call == [10, number]:
+                    if call == [CUT, number] or call == [SYNC, number]:
                         self.assertEqual(picture(node.known), now[number], (seed, call))
                 disks = now
 
-    def test_word_goes_with_the_number_before_the_one_expected(self):
-        desk = Desk()
-        desk.answer(opening(1, 1, 1, [9]))
-        for turn in range(3):
-            desk.answer([1, 1, 1, 0, 1, 1])
-        desk.answer([10, 0])
-        desk.answer([13, 1])
-        desk.answer([13, 1])
-        desk.answer([10, 1])
-        word = Parcel(1, 0, 2, ())
-        self.assertEqual(picture(desk.hotel.under_way.parcels[-1]), picture(word))
+    def test_looking_alters_nothing_within(self):
+        for seed in range(2400, 2410):
+            size, calls = drawn_line(seed, 200, MIXED)
+            desk = Desk()
+            for call in calls:
+                desk.answer(call)
+            before = picture(desk.hotel)
+            for look in all_looks(len(size[0]), size[1], size[2]):
+                desk.answer(list(look))
+                self.assertEqual(picture(desk.hotel), before, (seed, look))
 
 
 if __name__ == "__main__":

@@ -2,7 +2,7 @@
 
 import unittest
 
-from tests.helper import Line
+from tests.helper import Line, full_line
 
 
 def two_gives():
@@ -375,31 +375,21 @@ class Cuts(unittest.TestCase):
 
 
 class Full(unittest.TestCase):
-    def full(self):
-        """A line with 80 under way: 40 gives to agent 1, twice."""
-        line = Line(1, 2, 2, [30])
-        for turn in range(20):
-            line.give(1, 1, 0, 1, 1)
-            line.give(1, 1, 1, 2, 1)
-        line.sync(0)
-        self.assertEqual(line.again(0), [0, 40])
-        return line
-
     def test_eighty_at_most(self):
-        line = self.full()
+        line = full_line()
         self.assertEqual(line.under_way(), 80)
         self.assertEqual(line.again(0), [0, 0])
         self.assertEqual(line.under_way(), 80)
 
     def test_only_those_that_found_room_are_counted(self):
-        line = self.full()
+        line = full_line()
         for turn in range(3):
             line.deliver(1)
         self.assertEqual(line.again(0), [0, 3])
         self.assertEqual(line.under_way(), 80)
 
     def test_the_last_ones_are_lost_not_the_first(self):
-        line = self.full()
+        line = full_line()
         for turn in range(78):
             line.deliver(1)
         self.assertEqual(line.stocks(1, 1, 2), [20, 20])
@@ -409,7 +399,7 @@ class Full(unittest.TestCase):
         self.assertEqual(line.under_way(), 80)
 
     def test_what_is_written_finds_no_room_and_can_be_sent_again(self):
-        line = self.full()
+        line = full_line()
         line.ask(2, 1, 0, 1, 1)
         line.sync(2)
         self.assertEqual(line.under_way(), 80)
@@ -422,7 +412,7 @@ class Full(unittest.TestCase):
         self.assertEqual(line.stock(0, 1, 0), 9)
 
     def test_word_that_finds_no_room_is_not_owed_any_more(self):
-        line = self.full()
+        line = full_line()
         line.deliver(1)
         line.again(0)
         line.sync(1)

@@ -3,7 +3,7 @@
 import unittest
 
 from roomrights.net import answers
-from tests.helper import FAR, Line, opening, split_answers
+from tests.helper import FAR, Line, all_looks, opening, split_answers
 
 # For each call but open its numbers in the small hotel below, each with the least and the greatest one.
 AGENT = (1, 3)
@@ -26,6 +26,19 @@ SHAPES = {
     11: (NODE,),
     12: (NODE,),
     13: ((1, 80),),
+    14: ((1, 80),),
+    15: ((1, 80),),
+    16: ((1, 60),),
+    17: (KIND, FIRST),
+    18: (NODE,),
+    19: (AGENT,),
+    20: (),
+    21: (AGENT,),
+    22: (),
+    23: (NODE,),
+    24: (),
+    25: (KIND,),
+    26: (NODE,),
 }
 SMALL = opening(2, 5, 3, [3, 4])
 
@@ -128,6 +141,32 @@ class Ranges(unittest.TestCase):
         self.assertEqual(answer_behind(most, [1, 5, 4, 21, 22, 30]), [-1])
         self.assertEqual(answer_behind(most, [10, 5]), [0, 0, 0])
         self.assertEqual(answer_behind(most, [10, 6]), [-1])
+        for place in (18, 23, 26):
+            self.assertEqual(answer_behind(least, [place, 1])[0], 0)
+            self.assertEqual(answer_behind(least, [place, 2]), [-1])
+            self.assertEqual(answer_behind(most, [place, 5])[0], 0)
+            self.assertEqual(answer_behind(most, [place, 6]), [-1])
+        for place in (19, 21):
+            self.assertEqual(answer_behind(least, [place, 1]), [0])
+            self.assertEqual(answer_behind(least, [place, 2]), [-1])
+            self.assertEqual(answer_behind(most, [place, 5]), [0])
+            self.assertEqual(answer_behind(most, [place, 6]), [-1])
+        self.assertEqual(answer_behind(least, [17, 1, 0]), [0, 30, 30, 0, 0, 0, 0, 0])
+        self.assertEqual(answer_behind(least, [17, 1, 1]), [-1])
+        self.assertEqual(answer_behind(least, [17, 2, 0]), [-1])
+        self.assertEqual(answer_behind(most, [17, 4, 20]), [0, 30, 30, 0, 0] + [0, 0, 0] * 5)
+        self.assertEqual(answer_behind(most, [17, 4, 21]), [-1])
+        self.assertEqual(answer_behind(most, [17, 5, 20]), [-1])
+        self.assertEqual(answer_behind(least, [25, 1]), [0])
+        self.assertEqual(answer_behind(least, [25, 2]), [-1])
+        self.assertEqual(answer_behind(most, [25, 4]), [0])
+        self.assertEqual(answer_behind(most, [25, 5]), [-1])
+
+    def test_calls_without_numbers(self):
+        for place, answer in ((20, [0]), (22, [0, 0]), (24, [0, 1])):
+            self.assertEqual(answers([place]), [1, -2])
+            self.assertEqual(answer_behind([place] + SMALL, [place]), answer)
+            self.assertEqual(answer_behind(opening(1, 1, 6, [1]), [place]), [-2])
 
     def test_out_of_range_comes_ahead_of_the_other_refusals(self):
         self.assertEqual(answer_behind(SMALL, [1, 1, 1, 0, 5, 31]), [-1])
@@ -139,7 +178,10 @@ class Ranges(unittest.TestCase):
         self.assertEqual(answer_behind(SMALL, [7, 1, 1, 1, 0, 6]), [-1])
         self.assertEqual(answer_behind(SMALL, [8, 1, 0, 6, 30]), [-1])
         self.assertEqual(answer_behind(SMALL, [9, 0]), [-1])
-        self.assertEqual(answer_behind(SMALL, [13, 81]), [-1])
+        for place in (13, 14, 15):
+            self.assertEqual(answer_behind(SMALL, [place, 0]), [-1])
+            self.assertEqual(answer_behind(SMALL, [place, 80]), [-5])
+            self.assertEqual(answer_behind(SMALL, [place, 81]), [-1])
 
 
 class Opening(unittest.TestCase):
@@ -236,6 +278,19 @@ class Order(unittest.TestCase):
         self.assertEqual(line.change(0, 2, 2, 0, 1), [-5])
         self.assertEqual(line.change(0, 1, 2, 0, 1), [-3])
 
+    def test_double_of_no_message_and_without_room(self):
+        line = Line(1, 1, 1, [1])
+        line.give(1, 1, 0, 1, 1)
+        line.sync(0)
+        for turn in range(78):
+            self.assertEqual(line.double(1), [0])
+        self.assertEqual(line.double(80), [-5])
+        self.assertEqual(line.double(79), [0])
+        for place in (0, 81, -FAR, FAR):
+            self.assertEqual(line.double(place), [-1])
+        for place in (1, 40, 80):
+            self.assertEqual(line.double(place), [-4])
+
 
 class NothingChanges(unittest.TestCase):
     BEFORE = (
@@ -253,8 +308,10 @@ class NothingChanges(unittest.TestCase):
         + [10, 0]
         + [3, 3, 2, 0, 5, 3]
     )
+    LOOKS = sum([list(look) for look in all_looks(2, 5, 3)], [])
     BEHIND = (
-        [5, 0, 1, 2, 3]
+        LOOKS
+        + [5, 0, 1, 2, 3]
         + [6, 0, 1]
         + [7, 1, 1, 1, 1, 4]
         + [12, 0]
@@ -264,18 +321,22 @@ class NothingChanges(unittest.TestCase):
         + [12, 1]
         + [10, 2]
         + [10, 3]
-        + [13, 1] * 60
+        + [13, 1] * 30
+        + [15, 2]
+        + [14, 1]
         + [10, 0]
         + [10, 1]
         + [10, 2]
         + [10, 3]
-        + [13, 1] * 40
+        + [13, 1] * 20
         + [9, 2]
         + [4, 3, 2]
         + [10, 3]
         + [13, 1]
         + [10, 0]
         + [12, 0]
+        + [16, 2]
+        + LOOKS
     )
     REFUSED = (
         (opening(2, 5, 6, [4, 2]), -1),
@@ -305,6 +366,20 @@ class NothingChanges(unittest.TestCase):
         ([12, 4], -1),
         ([13, 50], -5),
         ([13, 81], -1),
+        ([14, 50], -5),
+        ([14, 0], -1),
+        ([15, 50], -5),
+        ([15, 81], -1),
+        ([16, 0], -1),
+        ([16, 61], -1),
+        ([17, 3, 0], -1),
+        ([17, 1, 5], -1),
+        ([18, 4], -1),
+        ([19, 0], -1),
+        ([21, 4], -1),
+        ([23, -1], -1),
+        ([25, 0], -1),
+        ([26, 4], -1),
     )
 
     def test_the_calls_behind_a_refused_one_answer_as_without_it(self):
@@ -313,6 +388,17 @@ class NothingChanges(unittest.TestCase):
         for call, refusal in self.REFUSED:
             with_it = answers(self.BEFORE + call + self.BEHIND)
             self.assertEqual(with_it, before + [1, refusal] + behind, call)
+
+    def test_a_refused_double_puts_nothing_on_a_full_net(self):
+        line = Line(1, 2, 1, [30])
+        for turn in range(20):
+            line.give(1, 1, 0, 2, 1)
+        line.sync(0)
+        for turn in range(3):
+            line.again(0)
+        before = line.everything()
+        self.assertEqual(line.double(7), [-4])
+        self.assertEqual(line.everything(), before)
 
     def test_a_refused_call_uses_no_number(self):
         line = Line(1, 2, 1, [1])
